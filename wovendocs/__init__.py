@@ -1,0 +1,1 @@
+"""Documents woven for reading."""
