@@ -63,6 +63,30 @@ def chunk(name):
     return row_call(5, coded(name))
 
 
+def file(path):
+    return row_call(6, coded(path))
+
+
+def setting(name):
+    return row_call(7, coded(name))
+
+
+def quotes(i):
+    return [8, i]
+
+
+def index(k):
+    return [9, k]
+
+
+def unweave_bytes(row):
+    return row_call(10, row)
+
+
+def unweave(*lines):
+    return unweave_bytes(text(*lines))
+
+
 def size():
     return [11]
 
@@ -92,9 +116,36 @@ def lines_of(answer):
     return words.split("\n")[:-1]
 
 
+def words_of(answer):
+    """A text that was answered, which is one line without its end."""
+    if answer[0] != len(answer) - 1:
+        raise AssertionError(f"no counted text: {answer}")
+    return bytes(answer[1:]).decode("ascii")
+
+
+def texts_of(answer):
+    """The texts that were answered."""
+    found = []
+    at = 1
+    while at < len(answer):
+        end = at + 1 + answer[at]
+        found.append(words_of(answer[at:end]))
+        at = end
+    if answer[0] != len(found):
+        raise AssertionError(f"not so many texts: {answer}")
+    return found
+
+
 def woven(*lines):
     """The lines that a document with these lines is woven into."""
     return lines_of(run(read(*lines), weave())[1])
+
+
+def index_of(*lines):
+    """The lines of the index of a document with these lines, each asked for by its number."""
+    count = run(read(*lines), size())[1][3]
+    found = run(read(*lines), *[index(k) for k in range(count)])
+    return [words_of(answer) for answer in found[1:]]
 
 
 class Case(unittest.TestCase):
@@ -110,6 +161,15 @@ class Case(unittest.TestCase):
 
     def assert_no_part_line(self, line):
         self.assert_fault(2, 3, "@chunk a(n, m2)", line, "@end")
+
+    def assert_unweaves(self, *lines):
+        """The document with these lines is held again, once its woven text is unwoven on a new object."""
+        first = run(read(*lines), weave(), size())
+        again = run(unweave_bytes(first[1][1:]), weave(), size())
+        self.assertEqual(again, [[first[0][1]], first[1], first[2]])
+
+    def assert_not_woven(self, *lines):
+        self.assertEqual(run(unweave(*lines)), [[-1]], lines)
 
     def assert_header(self, line):
         self.assert_blocks(1, line, "@end")

@@ -1,6 +1,7 @@
 """The document's own example, call by call."""
 
-from tests.helper import Case, EXAMPLE, block, chunk, lines_of, number, part, read, run, size, text, weave
+from tests.helper import Case, EXAMPLE, block, chunk, file, index, lines_of, number, part, quotes, read, run, setting
+from tests.helper import size, text, texts_of, unweave, weave, words_of
 from wovendocs.weaving import answers
 
 WOVEN_BLOCKS = [
@@ -45,6 +46,32 @@ class ExampleTest(Case):
     def test_chunks(self):
         found = ask(chunk("sum"), chunk("main loop"), chunk("print"), chunk("out"), chunk("fast"), chunk("x"))
         self.assertEqual(found, [[1, 4, 2, 1, 3, 1, 1], [2, 1, 3, 1, 2, 0], [0, 1, 1, 0], [-3], [-3], [-3]])
+
+    def test_file(self):
+        self.assertEqual(ask(file("out"), file("sum"), file("fast"), file("")), [[1, 2], [-3], [-3], [-3]])
+
+    def test_setting(self):
+        self.assertEqual(ask(setting("fast"), setting("sum"), setting("out"), setting("")), [[1, 2], [-3], [-3], [-3]])
+
+    def test_quotes(self):
+        found = ask(*[quotes(i) for i in range(-1, 6)])
+        self.assertEqual(found, [[-2], [1, 3, 115, 117, 109], [-4], [-4], [-4], [-4], [-2]])
+        self.assertEqual(texts_of(found[1]), ["sum"])
+
+    def test_index(self):
+        found = ask(*[index(k) for k in range(-1, 6)])
+        self.assertEqual([words_of(answer) for answer in found[1:6]], INDEX)
+        self.assertEqual([found[0], found[6]], [[-2], [-2]])
+
+    def test_unweave(self):
+        found = run(unweave(*ALL_LINES), weave(), size())
+        self.assertEqual(found[0], [5])
+        self.assertEqual(lines_of(found[1]), ALL_LINES)
+        self.assertEqual(found[2], [5, 4, 16, 5, 351])
+
+    def test_all_calls_after_unweave(self):
+        calls = [block(1), number(3), part(3), chunk("sum"), file("out"), setting("fast"), quotes(0), index(2)]
+        self.assertEqual(run(unweave(*ALL_LINES), *calls)[1:], ask(*calls))
 
     def test_size(self):
         self.assertEqual(ask(size()), [[5, 4, 16, 5, len(text(*ALL_LINES))]])

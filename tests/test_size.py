@@ -1,6 +1,6 @@
 """size: five numbers."""
 
-from tests.helper import Case, EXAMPLE, read, read_bytes, run, size, text, weave
+from tests.helper import Case, EXAMPLE, read, read_bytes, run, size, text, unweave, weave, woven
 
 
 class SizeTest(Case):
@@ -23,3 +23,12 @@ class SizeTest(Case):
     def test_after_a_fault(self):
         found = run(read("@x"), size(), read(*EXAMPLE), read("@chunk a"), size(), read_bytes([10] * 20001), size())
         self.assertEqual(found, [[1, 2], [0] * 5, [0, 5], [2, 8], [5, 4, 16, 5, 351], [-6], [5, 4, 16, 5, 351]])
+
+    def test_after_unweave(self):
+        found = run(unweave(*woven(*EXAMPLE)), size(), unweave(" a"), size())
+        self.assertEqual(found, [[5], [5, 4, 16, 5, 351], [1], [1, 0, 1, 0, 3]])
+
+    def test_after_a_refused_unweave(self):
+        too_long = [" " + "p" * 200] * 110
+        found = run(unweave("a"), size(), unweave(" a"), unweave(" a", "a"), size(), unweave(*too_long), size())
+        self.assertEqual(found, [[-1], [0] * 5, [1], [-1], [1, 0, 1, 0, 3], [-6], [1, 0, 1, 0, 3]])

@@ -10,6 +10,7 @@ FILE_START = "@file "
 IF_START = "@if "
 ELSE_TEXT = "@else"
 END_OF_IF_TEXT = "@fi"
+PART_END = "@end"
 
 MOST_PARAMETERS = 4
 

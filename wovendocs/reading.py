@@ -1,10 +1,8 @@
 """A text read into a document, or its first fault found."""
 
 from wovendocs.document import Document, ELSE, END_OF_IF, IF, Prose
-from wovendocs.lines import NotSuchText, begins_with, read_header, read_line
+from wovendocs.lines import NotSuchText, PART_END, begins_with, read_header, read_line
 from wovendocs.signs import LINE_END, coded, is_sign, split_at
-
-PART_END = "@end"
 
 MOST_LINE_BYTES = 200
 MOST_BLOCKS = 200

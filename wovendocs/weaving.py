@@ -1,8 +1,10 @@
 """The calls on one document, and what they answer."""
 
-from wovendocs.document import Document, Part
+from wovendocs.document import Document, Part, quotes_of
+from wovendocs.lines import NotSuchText
 from wovendocs.reading import Fault, read_document
-from wovendocs.woven import block_lines, ended, index_lines
+from wovendocs.unweaving import unwoven_text
+from wovendocs.woven import Woven, ended
 
 READ = 0
 WEAVE = 1
@@ -10,14 +12,21 @@ BLOCK = 2
 NUMBER = 3
 PART = 4
 CHUNK = 5
+FILE = 6
+SETTING = 7
+QUOTES = 8
+INDEX = 9
+UNWEAVE = 10
 SIZE = 11
 
+NOT_WOVEN = -1
 NO_SUCH_NUMBER = -2
 NO_SUCH_NAME = -3
-TOO_LONG_TO_READ = -6
+NO_PROSE = -4
+TOO_LONG_TO_HOLD = -6
 TOO_LONG_TO_ANSWER = -7
 
-MOST_READ_BYTES = 20000
+MOST_HELD_BYTES = 20000
 MOST_ANSWERED_BYTES = 24000
 
 
@@ -29,16 +38,11 @@ class UnknownCall(ValueError):
 # The document that is held, and what it is woven into.
 class Held:
     def __init__(self):
-        self.hold(Document())
+        self.hold(Woven(Document()))
 
-    def hold(self, document):
-        self.document = document
-        self.block_lines = [block_lines(document, block) for block in document.blocks]
-        self.index_lines = index_lines(document)
-        self.text = []
-        for lines in self.block_lines:
-            self.text.extend(ended(lines))
-        self.text.extend(ended(self.index_lines))
+    def hold(self, woven):
+        self.woven = woven
+        self.document = woven.document
 
     def has_block(self, i):
         return 0 <= i < len(self.document.blocks)
@@ -52,11 +56,11 @@ def answers(calls):
     while at < len(calls):
         number = calls[at]
         at += 1
-        if number in (READ, CHUNK):
+        if number in (READ, CHUNK, FILE, SETTING, UNWEAVE):
             end = at + 1 + calls[at]
             answer = answer_row_call(held, number, calls[at + 1:end])
             at = end
-        elif number in (BLOCK, NUMBER, PART):
+        elif number in (BLOCK, NUMBER, PART, QUOTES, INDEX):
             answer = answer_number_call(held, number, calls[at])
             at += 1
         else:
@@ -69,7 +73,13 @@ def answers(calls):
 def answer_row_call(held, number, row):
     if number == READ:
         return answer_read(held, row)
-    return answer_chunk(held, tuple(row))
+    if number == UNWEAVE:
+        return answer_unweave(held, row)
+    if number == CHUNK:
+        return answer_chunk(held, tuple(row))
+    if number == FILE:
+        return answer_parts(held.document.file_parts, tuple(row))
+    return answer_parts(held.document.askers, tuple(row))
 
 
 def answer_number_call(held, number, k):
@@ -77,12 +87,16 @@ def answer_number_call(held, number, k):
         return answer_block(held, k)
     if number == NUMBER:
         return answer_number(held, k)
-    return answer_part(held, k)
+    if number == PART:
+        return answer_part(held, k)
+    if number == QUOTES:
+        return answer_quotes(held, k)
+    return answer_index(held, k)
 
 
 def answer_bare_call(held, number):
     if number == WEAVE:
-        return short(held.text)
+        return short(held.woven.text)
     if number == SIZE:
         return answer_size(held)
     raise UnknownCall(f"call {number} can not be answered")
@@ -99,19 +113,19 @@ def short(text):
 
 
 def answer_read(held, text):
-    if len(text) > MOST_READ_BYTES:
-        return [TOO_LONG_TO_READ]
+    if len(text) > MOST_HELD_BYTES:
+        return [TOO_LONG_TO_HOLD]
     found = read_document(text)
     if isinstance(found, Fault):
         return [found.line, found.reason]
-    held.hold(found)
+    held.hold(Woven(found))
     return [0, len(found.blocks)]
 
 
 def answer_block(held, i):
     if not held.has_block(i):
         return [NO_SUCH_NUMBER]
-    return short(ended(held.block_lines[i]))
+    return short(ended(held.woven.block_lines[i]))
 
 
 def answer_number(held, i):
@@ -140,7 +154,51 @@ def answer_chunk(held, name):
     return answer
 
 
+# The numbers of the parts of a file, or of those that ask a setting.
+def answer_parts(rows, name):
+    if name not in rows:
+        return [NO_SUCH_NAME]
+    return counted(rows[name])
+
+
+def answer_quotes(held, i):
+    if not held.has_block(i):
+        return [NO_SUCH_NUMBER]
+    block = held.document.blocks[i]
+    if isinstance(block, Part):
+        return [NO_PROSE]
+    quotes = quotes_of(block.text)
+    answer = [len(quotes)]
+    for quote in quotes:
+        answer.extend(counted(quote))
+    return answer
+
+
+def answer_index(held, k):
+    if k < 0 or k >= len(held.woven.index_lines):
+        return [NO_SUCH_NUMBER]
+    return counted(held.woven.index_lines[k])
+
+
+def answer_unweave(held, text):
+    try:
+        document_text = unwoven_text(text)
+    except NotSuchText:
+        return [NOT_WOVEN]
+    found = read_document(document_text)
+    if isinstance(found, Fault):
+        return [NOT_WOVEN]
+    woven = Woven(found)
+    if woven.text != text:
+        return [NOT_WOVEN]
+    if len(document_text) > MOST_HELD_BYTES:
+        return [TOO_LONG_TO_HOLD]
+    held.hold(woven)
+    return [len(found.blocks)]
+
+
 def answer_size(held):
-    line_count = sum([len(lines) for lines in held.block_lines])
+    woven = held.woven
+    line_count = sum([len(lines) for lines in woven.block_lines])
     counts = [len(held.document.blocks), len(held.document.parts), line_count]
-    return counts + [len(held.index_lines), len(held.text)]
+    return counts + [len(woven.index_lines), len(woven.text)]

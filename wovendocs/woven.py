@@ -4,6 +4,18 @@ from wovendocs.document import Part
 from wovendocs.signs import BLANK, LINE_END, coded
 
 
+# A document, and the lines and the text that it is woven into.
+class Woven:
+    def __init__(self, document):
+        self.document = document
+        self.block_lines = [block_lines(document, block) for block in document.blocks]
+        self.index_lines = index_lines(document)
+        self.text = []
+        for lines in self.block_lines:
+            self.text.extend(ended(lines))
+        self.text.extend(ended(self.index_lines))
+
+
 def written_number(number):
     return "?" if number == 0 else str(number)
 
