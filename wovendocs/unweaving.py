@@ -11,6 +11,7 @@ class Unweaver:
         self.lines = []
         self.is_within = False
 
+    # Lines that begin otherwise follow from these, so nothing is read off them.
     def take_woven(self, line):
         start = line[:1]
         if start == [BLANK]:
@@ -22,7 +23,6 @@ class Unweaver:
             self.is_within = True
         elif start == [COLON]:
             self.lines.append(unwoven_line(line[1:]))
-        # All other lines follow from these.
 
     def end_part(self):
         if self.is_within:
@@ -30,8 +30,8 @@ class Unweaver:
         self.is_within = False
 
 
-# The text of the only document that can be woven into this text. Whether it is woven into just this, or is a
-# document at all, is left open here: reading and weaving it tell that.
+# The text of the only document that may be woven into this text; NotSuchText where none may be. Whether it is a
+# document's, and woven into just this text, is left open: reading and weaving it tells that of every byte.
 def unwoven_text(text):
     unweaver = Unweaver()
     for line in split_at(text, LINE_END)[:-1]:
@@ -54,7 +54,8 @@ def unwoven_line(woven):
     at = 0
     # The numbers in square brackets are plain signs, so the uses are found as in a line without them.
     for use in read_line(woven).uses:
-        # A use ahead of the last one's bracket: without this, each use could be searched to the line's end.
+        # A use that stands ahead of the bracket of the one before. Were it let by, each of many uses might be
+        # searched to the end of a long line.
         if use.end < at:
             raise NotSuchText()
         text.extend(woven[at:use.end])
